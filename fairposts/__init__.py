@@ -1,0 +1,1 @@
+"""Fairposts: things with posts, each held on one side and read on the other."""

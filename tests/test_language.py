@@ -1,0 +1,125 @@
+"""The rules of LANGUAGE.md that can be seen by a short look at the files of the package."""
+
+import ast
+import builtins
+import pathlib
+import re
+import unittest
+
+FOLDER = pathlib.Path(__file__).resolve().parent.parent / "fairposts"
+ALLOWED = set("""
+    len range enumerate zip min max sum abs sorted reversed int str bool list tuple dict set isinstance ord repr any all
+    divmod iter next super property staticmethod classmethod Exception ValueError TypeError KeyError IndexError
+    LookupError ZeroDivisionError ArithmeticError OverflowError RuntimeError NotImplementedError AttributeError
+    StopIteration NotImplemented
+""".split())
+BARRED = set("""
+    type typing typing_extensions enum Enum IntEnum StrEnum Flag IntFlag Generic Protocol ABC ABCMeta namedtuple
+    NamedTuple TypedDict TYPE_CHECKING abstractmethod dataclass overload contextmanager
+    register mro elements open input version_info with_traceback add_note
+    attrgetter breakpoint builtins compile copyright credits delattr dir eval exec exit gc getattr globals hasattr help
+    id importlib license locals methodcaller os quit setattr vars sys
+""".split())
+STATEMENTS = (
+    ast.Assign, ast.AugAssign, ast.AnnAssign, ast.If, ast.While, ast.For, ast.Return, ast.Break, ast.Continue, ast.Pass,
+    ast.Raise, ast.Assert, ast.Delete, ast.Nonlocal, ast.Match, ast.With, ast.Try, ast.Expr, ast.FunctionDef,
+    ast.ClassDef, ast.ImportFrom,
+)
+
+
+def files():
+    return sorted(path for path in FOLDER.rglob("*") if path.is_file() and "__pycache__" not in path.parts)
+
+
+def trees():
+    for path in files():
+        yield path, ast.parse(path.read_text("ascii"))
+
+
+def bound_names(tree):
+    """All names that a file gives a meaning of its own to."""
+    for node in ast.walk(tree):
+        if isinstance(node, ast.Name) and isinstance(node.ctx, ast.Store):
+            yield node.id
+        elif isinstance(node, ast.arg):
+            yield node.arg
+        elif isinstance(node, (ast.FunctionDef, ast.ClassDef)):
+            yield node.name
+        elif isinstance(node, ast.alias):
+            yield node.asname or node.name
+
+
+class Language(unittest.TestCase):
+    def test_files(self):
+        self.assertIn("__init__.py", [path.name for path in files()])
+        for path in files():
+            self.assertRegex(path.name, r"\A([a-z][a-z0-9_]*|__init__|__main__)\.py\Z")
+
+    def test_signs_and_sizes(self):
+        for path in files():
+            lines = path.read_text("ascii").split("\n")
+            self.assertLessEqual(len(lines), 400, path)
+            for line in lines:
+                self.assertRegex(line, r"\A[ -~]{0,120}\Z", path)
+
+    def test_functions_are_short(self):
+        for path, tree in trees():
+            for node in ast.walk(tree):
+                if isinstance(node, ast.FunctionDef):
+                    self.assertLessEqual(node.end_lineno - node.lineno, 39, (path, node.name))
+
+    def test_imports(self):
+        for path, tree in trees():
+            for node in ast.walk(tree):
+                self.assertNotIsInstance(node, ast.Import)
+                if isinstance(node, ast.ImportFrom):
+                    self.assertIn(node, tree.body)
+                    self.assertRegex(node.module, r"\Afairposts\.[a-z]+\Z")
+                    self.assertEqual(node.level, 0)
+
+    def test_statements(self):
+        for path, tree in trees():
+            for node in ast.walk(tree):
+                if isinstance(node, ast.stmt):
+                    self.assertIsInstance(node, STATEMENTS, (path, node.lineno))
+
+    def test_no_barred_words(self):
+        for path in files():
+            words = set(re.findall(r"\w+", path.read_text("ascii")))
+            self.assertEqual(words & BARRED, set(), path)
+
+    def test_names(self):
+        for path, tree in trees():
+            for name in bound_names(tree):
+                self.assertRegex(name, r"\A([A-Za-z]\w*|__\w+__)\Z", path)
+                self.assertNotIn(name, dir(builtins), path)
+
+    def test_builtins(self):
+        for path, tree in trees():
+            known = set(bound_names(tree)) | ALLOWED
+            for node in ast.walk(tree):
+                if isinstance(node, ast.Name) and isinstance(node.ctx, ast.Load):
+                    self.assertIn(node.id, known, (path, node.lineno))
+
+    def test_numbers_and_signs(self):
+        for path, tree in trees():
+            for node in ast.walk(tree):
+                self.assertNotIsInstance(node, (ast.Div, ast.MatMult, ast.Await), path)
+                if isinstance(node, ast.Constant):
+                    self.assertNotIsInstance(node.value, (float, complex), path)
+                    self.assertFalse(isinstance(node.value, str) and "%" in node.value, path)
+                if isinstance(node, ast.BinOp) and isinstance(node.op, ast.Pow):
+                    self.assertIsInstance(node.right, ast.Constant, path)
+                if isinstance(node, ast.Compare) and any(isinstance(op, (ast.Is, ast.IsNot)) for op in node.ops):
+                    self.assertTrue(all(isinstance(side, ast.Constant) for side in node.comparators), path)
+
+    def test_any_all_and_sum_take_lists(self):
+        for path, tree in trees():
+            for node in ast.walk(tree):
+                if isinstance(node, ast.Call) and isinstance(node.func, ast.Name):
+                    if node.func.id in ("any", "all", "sum", "min", "max", "sorted"):
+                        self.assertNotIsInstance(node.args[0], ast.GeneratorExp, (path, node.lineno))
+
+
+if __name__ == "__main__":
+    unittest.main()
