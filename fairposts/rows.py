@@ -18,6 +18,11 @@ def nought(posts):
     return ((0, 0),) * posts
 
 
+def placed(posts, pairs):
+    """Return the row that has pairs, a dict by posts, and noughts at all other posts."""
+    return tuple(pairs.get(post, (0, 0)) for post in range(posts))
+
+
 def added(p, one, other):
     """Return the sum of two rows of as many posts."""
     return tuple(((a + c) % p, (b + d) % p) for (a, b), (c, d) in zip(one, other))

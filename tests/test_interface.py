@@ -1,7 +1,7 @@
 import inspect
 import unittest
 
-from fairposts import errors, rounds, rows, spans
+from fairposts import errors, gadgets, holds, rounds, rows, spans, things, ties
 
 FUNCTIONS = {
     rounds: {"is_prime": ["thing"], "is_round": ["p", "thing"], "inverse": ["p", "number"],
@@ -10,6 +10,19 @@ FUNCTIONS = {
            "times": ["p", "number", "row"], "meet": ["p", "one", "other"], "part": ["row", "posts"]},
     spans: {"plain": ["p", "posts", "rows"], "mirror": ["p", "posts", "rows"], "is_in": ["p", "posts", "rows", "row"],
             "in_paper": ["p", "posts", "rows", "row"], "in_holds": ["p", "posts", "rows", "row", "thing"]},
+    gadgets: {"spring": ["p", "k"], "lever": ["p", "k"], "knot": ["p", "many"], "ring": ["p", "many"],
+              "by_table": ["p", "hold", "table"], "is_gadget": ["p", "thing"], "made": ["p", "gadget"],
+              "width": ["gadget"]},
+    ties: {"beside": ["one", "other"], "ordered": ["thing", "order"], "turned_over": ["thing"],
+           "joined": ["thing", "one", "other"], "stilled": ["thing", "post"], "freed": ["thing", "post"]},
+    holds: {"is_hold": ["posts", "thing"], "stands": ["thing", "hold"], "still_hands": ["thing", "hold"],
+            "read": ["thing", "hold", "numbers"], "table": ["thing", "hold"], "hold_paper": ["thing", "hold"],
+            "paper_holds": ["thing", "hold", "paper"], "mended": ["thing", "hold"], "all_holds": ["thing"]},
+}
+
+METHODS = {
+    things.Thing: {"__init__": ["p", "rows"], "p": [], "posts": [], "rows": [], "has": ["row"], "told": [],
+                   "__eq__": ["other"], "__len__": [], "__str__": []},
 }
 
 ERRORS = {"BadThing": ["place"], "BadGadget": [], "BadPost": ["post"], "BadNumber": ["number"], "BadText": ["row"],
@@ -23,6 +36,12 @@ class Interface(unittest.TestCase):
                 function = getattr(module, name)
                 self.assertEqual(function.__module__, module.__name__)
                 self.assertEqual(list(inspect.signature(function).parameters), arguments)
+
+    def test_methods_stand_in_the_class_itself(self):
+        for kind, methods in METHODS.items():
+            for name, arguments in methods.items():
+                self.assertIn(name, vars(kind))
+                self.assertEqual(list(inspect.signature(vars(kind)[name]).parameters), ["self", *arguments])
 
     def test_errors_and_arguments(self):
         for name, arguments in ERRORS.items():

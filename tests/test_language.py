@@ -49,6 +49,15 @@ def bound_names(tree):
             yield node.asname or node.name
 
 
+def module_names(tree):
+    """The names that a file defines itself, at module level."""
+    for node in tree.body:
+        if isinstance(node, (ast.FunctionDef, ast.ClassDef)):
+            yield node.name
+        elif isinstance(node, ast.Assign):
+            yield from (target.id for target in node.targets)
+
+
 class Language(unittest.TestCase):
     def test_files(self):
         self.assertIn("__init__.py", [path.name for path in files()])
@@ -112,6 +121,54 @@ class Language(unittest.TestCase):
                     self.assertIsInstance(node.right, ast.Constant, path)
                 if isinstance(node, ast.Compare) and any(isinstance(op, (ast.Is, ast.IsNot)) for op in node.ops):
                     self.assertTrue(all(isinstance(side, ast.Constant) for side in node.comparators), path)
+
+    def test_no_two_files_import_from_each_other(self):
+        names = {}
+        for path, tree in trees():
+            names[path.stem] = [node.module.split(".")[1] for node in tree.body if isinstance(node, ast.ImportFrom)]
+        while names:
+            free = [name for name in names if not set(names[name]) & set(names)]
+            self.assertTrue(free, names)
+            names = {name: names[name] for name in names if name not in free}
+
+    def test_names_are_imported_from_where_they_are_defined(self):
+        defined = {path.stem: set(module_names(tree)) for path, tree in trees()}
+        for path, tree in trees():
+            imported = [(node.module.split(".")[1], alias) for node in tree.body if isinstance(node, ast.ImportFrom)
+                        for alias in node.names]
+            for module, alias in imported:
+                self.assertIsNone(alias.asname)
+                self.assertIn(alias.name, defined[module], path)
+            words = re.findall(r"\w+", path.read_text("ascii"))
+            for module, alias in imported:
+                self.assertGreater(words.count(alias.name), 1, (path, alias.name))
+
+    def test_no_local_name_is_an_imported_one_or_a_class(self):
+        for path, tree in trees():
+            barred = {alias.name for node in tree.body if isinstance(node, ast.ImportFrom) for alias in node.names}
+            barred |= {node.name for node in tree.body if isinstance(node, ast.ClassDef)}
+            for node in ast.walk(tree):
+                if isinstance(node, ast.FunctionDef):
+                    self.assertEqual(set(bound_names(node)) & barred, set(), (path, node.name))
+
+    def test_no_method_has_the_name_of_an_attribute(self):
+        methods, attributes = set(), set()
+        for path, tree in trees():
+            for node in ast.walk(tree):
+                if isinstance(node, ast.ClassDef):
+                    methods |= {inner.name for inner in node.body if isinstance(inner, ast.FunctionDef)}
+                if isinstance(node, ast.Attribute) and isinstance(node.ctx, ast.Store):
+                    attributes.add(node.attr)
+        self.assertEqual(methods & attributes, set())
+
+    def test_views_are_iterated_at_once(self):
+        for path, tree in trees():
+            for node in ast.walk(tree):
+                if isinstance(node, (ast.Assign, ast.Return)):
+                    self.assertNotIsInstance(node.value, ast.GeneratorExp, (path, node.lineno))
+                    called = isinstance(node.value, ast.Call) and isinstance(node.value.func, ast.Name)
+                    lazy = called and node.value.func.id in ("zip", "range", "enumerate", "reversed", "iter")
+                    self.assertFalse(lazy, (path, node.lineno))
 
     def test_any_all_and_sum_take_lists(self):
         for path, tree in trees():

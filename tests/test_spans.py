@@ -2,7 +2,8 @@ import unittest
 
 from fairposts import spans
 from tests.helper import (
-    PRIMES, all_rows, any_row, any_rows, dice, endless, flat, kept_as_is, lot, met, mixed, odd_things, unalike,
+    PRIMES, Told, all_rows, any_row, any_rows, dice, endless, first_of, flat, kept_as_is, lot, met, mixed, odd_things,
+    other_span, unalike,
 )
 
 SMALL = ((2, 0), (2, 1), (2, 2), (2, 3), (3, 1), (3, 2), (5, 1), (7, 1))
@@ -18,23 +19,6 @@ def some_rows(source, p, posts):
     found += [((0, 0),) * posts] * source.randrange(2)
     source.shuffle(found)
     return found
-
-
-def other_span(source, p, posts, rows):
-    """Other rows that span the same lot: each step can be taken back."""
-    found = list(rows)
-    for _ in range(3 * len(found)):
-        one, other = source.randrange(len(found)), source.randrange(len(found))
-        if one == other:
-            found[one] = mixed(p, posts, (source.randrange(1, p),), (found[one],))
-        else:
-            found[one] = mixed(p, posts, (1, source.randrange(p)), (found[one], found[other]))
-    source.shuffle(found)
-    return found + [((0, 0),) * posts] * source.randrange(2)
-
-
-def first_of(row):
-    return next(place for place, number in enumerate(flat(row)) if number)
 
 
 def samples(name, times=3):
@@ -53,35 +37,6 @@ def small_samples(name):
         for many in range(2 * posts + 2):
             for _ in range(4):
                 yield source, p, posts, any_rows(source, p, posts, many)
-
-
-class Told(unittest.TestCase):
-    def is_list_of_rows(self, told, p, posts):
-        self.assertIs(type(told), list)
-        for row in told:
-            self.assertIs(type(row), tuple)
-            self.assertEqual(len(row), posts)
-            for pair in row:
-                self.assertIs(type(pair), tuple)
-                self.assertEqual(len(pair), 2)
-                self.assertTrue(all(type(number) is int and 0 <= number < p for number in pair))
-
-    def is_plain(self, told, p, posts):
-        self.is_list_of_rows(told, p, posts)
-        firsts = [first_of(row) for row in told]
-        self.assertEqual(firsts, sorted(set(firsts)))
-        for at, row in enumerate(told):
-            self.assertEqual([flat(row)[first] for first in firsts], [int(k == at) for k in range(len(told))])
-
-    def is_new_each_time(self, asked, *told):
-        first = asked(*told)
-        as_it_was = list(first)
-        second = asked(*told)
-        self.assertIsNot(first, second)
-        first.append("more")
-        first.reverse()
-        self.assertEqual(second, as_it_was)
-        self.assertEqual(asked(*told), as_it_was)
 
 
 class Plain(Told):
