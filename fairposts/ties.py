@@ -32,16 +32,26 @@ def check_post(thing, post):
         raise BadPost(post)
 
 
-def tied(thing, gone, ties):
-    """Return what thing lets be at the posts that are not gone, where ties, rows at those gone, span what may be there.
+def tie_rows(p, posts, tie):
+    """Return a list of rows that span what tie lets be at its own posts, with noughts at all others.
 
-    What may be at the posts gone is, for each tie, its own mirror.
+    That is, at its own posts, its own mirror: a row keeps the tie just where it meets these with 0.
     """
-    # So a stand keeps the tie just where it meets ties with 0, and the stands
-    # that do are the mirror of the thing's rows and ties together.
-    kept = mirror(thing.p(), thing.posts(), [*thing.rows(), *ties])
-    left = [post for post in range(thing.posts()) if post not in gone]
-    return Thing(thing.p(), tuple(part(row, left) for row in kept))
+    word, post = tie[0], tie[1]
+    if word == "still":
+        return [placed(posts, {post: (0, 1)})]
+    if word == "free":
+        return [placed(posts, {post: (1, 0)})]
+    other = tie[2]
+    return [placed(posts, {post: (1, 0), other: (1, 0)}), placed(posts, {post: (0, 1), other: (0, p - 1)})]
+
+
+def tied(thing, tie):
+    """Return what thing lets be by tie at the posts that are left."""
+    p, posts = thing.p(), thing.posts()
+    kept = mirror(p, posts, [*thing.rows(), *tie_rows(p, posts, tie)])
+    names = [post for post in range(posts) if post not in tie[1:]]
+    return Thing(p, tuple(part(row, names) for row in kept))
 
 
 def joined(thing, one, other):
@@ -50,19 +60,16 @@ def joined(thing, one, other):
     check_post(thing, other)
     if one == other:
         raise BadPost(other)
-    p = thing.p()
-    pushes = placed(thing.posts(), {one: (1, 0), other: (1, 0)})
-    answers = placed(thing.posts(), {one: (0, 1), other: (0, p - 1)})
-    return tied(thing, (one, other), [pushes, answers])
+    return tied(thing, ("join", one, other))
 
 
 def stilled(thing, post):
     """Return thing with a post stilled; refuse with BadPost what is no post of it."""
     check_post(thing, post)
-    return tied(thing, (post,), [placed(thing.posts(), {post: (0, 1)})])
+    return tied(thing, ("still", post))
 
 
 def freed(thing, post):
     """Return thing with a post freed; refuse with BadPost what is no post of it."""
     check_post(thing, post)
-    return tied(thing, (post,), [placed(thing.posts(), {post: (1, 0)})])
+    return tied(thing, ("free", post))

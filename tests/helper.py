@@ -6,6 +6,9 @@ import itertools
 import random
 import unittest
 
+from fairposts.benches import Bench
+from fairposts.curtains import Curtain
+from fairposts.errors import PostError
 from fairposts.things import Thing
 
 PRIMES = (2, 3, 5, 7, 11, 13)
@@ -206,6 +209,216 @@ def is_among(p, posts, plain, row):
     return mixed(p, posts, [flat(row)[first_of(one)] for one in plain], plain) == row
 
 
+def held(hold, row):
+    return tuple(pair[side] for pair, side in zip(row, hold))
+
+
+def still_set(hold, stands):
+    """The still ones of a hold: its still hands and the row of noughts."""
+    return {row for row in stands if not any(held(hold, row))}
+
+
+def plain_of(stills):
+    """The plain rows of a whole lot: each has a 1 first, where all others have 0."""
+    firsts = sorted({first_of(row) for row in stills if any(map(any, row))})
+    found = []
+    for at, first in enumerate(firsts):
+        wanted = [int(other == at) for other in range(len(firsts))]
+        found += [row for row in stills if [sum(row, ())[place] for place in firsts] == wanted]
+    return found
+
+
+def table_by_the_words(p, hold, stands):
+    """The table, as [17] has it: of the stands with one 1 held."""
+    found = []
+    for k in range(len(hold)):
+        row = next(row for row in stands if held(hold, row) == tuple(int(j == k) for j in range(len(hold))))
+        found.append(tuple((0 - row[j][0]) % p if side else row[j][1] for j, side in enumerate(hold)))
+    return tuple(found)
+
+
+def mended_by_the_words(hold, stands):
+    """Mended step by step, as [19] has it."""
+    hold, posts = list(hold), []
+    while len(still_set(hold, stands)) > 1:
+        least = min(post for row in still_set(hold, stands) for post in range(len(hold)) if row[post][1 - hold[post]])
+        hold[least] = 1 - hold[least]
+        posts.append(least)
+    return tuple(hold), tuple(posts)
+
+
+def stands_of(thing):
+    return lot(thing.p(), thing.posts(), thing.rows())
+
+
+def a_stand(source, thing):
+    return mixed(thing.p(), thing.posts(), [source.randrange(thing.p()) for _ in thing.rows()], thing.rows())
+
+
+def is_spring(p, k, row):
+    return row[0][1] == k * row[0][0] % p
+
+
+def is_lever(p, k, row):
+    return row[1][0] == k * row[0][0] % p and row[0][1] == -k * row[1][1] % p
+
+
+def is_knot(p, many, row):
+    return len({push for push, answer in row}) == 1 and sum(answer for push, answer in row) % p == 0
+
+
+def is_ring(p, many, row):
+    return len({answer for push, answer in row}) == 1 and sum(push for push, answer in row) % p == 0
+
+
+def is_by_table(p, hold, table, row):
+    """Tell whether each told read side is what the table makes of the held ones, as [17] has it."""
+    numbers = held(hold, row)
+    for j, side in enumerate(hold):
+        told = -row[j][0] if side else row[j][1]
+        if (told - sum(table[k][j] * numbers[k] for k in range(len(hold)))) % p:
+            return False
+    return True
+
+
+LAWS = {"spring": is_spring, "lever": is_lever, "knot": is_knot, "ring": is_ring, "table": is_by_table}
+
+
+def is_gadget_by_the_words(p, thing):
+    """Tell whether thing is a gadget round p, as [12] and [21] have it."""
+    if type(thing) is not tuple or len(thing) not in (2, 3) or type(thing[0]) is not str:
+        return False
+    if len(thing) == 2:
+        low, high = {"spring": (0, p - 1), "lever": (0, p - 1), "knot": (2, 10), "ring": (2, 10)}.get(thing[0], (1, 0))
+        return type(thing[1]) is int and low <= thing[1] <= high
+    word, hold, table = thing
+    if word != "table" or type(hold) is not tuple or type(table) is not tuple or len(hold) > 10:
+        return False
+    if any(type(side) is not int or side not in (0, 1) for side in hold) or len(table) != len(hold):
+        return False
+    if any(type(row) is not tuple or len(row) != len(hold) for row in table):
+        return False
+    if any(type(number) is not int or not 0 <= number < p for row in table for number in row):
+        return False
+    return all(table[k][j] == table[j][k] for k in range(len(hold)) for j in range(k))
+
+
+def posts_of_gadget(gadget):
+    """How many posts a gadget has."""
+    return {"spring": 1, "lever": 2, "table": len(gadget[1]) if gadget[0] == "table" else 0}.get(gadget[0], gadget[1])
+
+
+def parts_of_web(web):
+    """The posts of each of a web's gadgets, numbered through."""
+    begin, found = 0, []
+    for gadget in web[1]:
+        found.append(list(range(begin, begin + posts_of_gadget(gadget))))
+        begin += posts_of_gadget(gadget)
+    return found
+
+
+def left_by_the_words(web):
+    """The posts that stand in no tie."""
+    return tuple(post for its in parts_of_web(web) for post in its if all(post not in tie[1:] for tie in web[2]))
+
+
+def keeps_tie(p, tie, row):
+    """Tell whether a tie's condition [14] is kept by a row at all posts."""
+    (push, answer), (other_push, other_answer) = row[tie[1]], row[tie[-1]]
+    if tie[0] == "join":
+        return push == other_push and (answer + other_answer) % p == 0
+    return {"still": push, "free": answer}[tie[0]] == 0
+
+
+def is_full_by_the_words(web, row):
+    """Tell whether a row at all posts is full, as [27] has it."""
+    p, gadgets, ties = web
+    for gadget, its in zip(gadgets, parts_of_web(web)):
+        if not LAWS[gadget[0]](p, *gadget[1:], tuple(row[post] for post in its)):
+            return False
+    return all(keeps_tie(p, tie, row) for tie in ties)
+
+
+@functools.cache
+def gadget_stands(p, gadget):
+    """All stands of a gadget of few posts."""
+    return [row for row in all_rows(p, posts_of_gadget(gadget)) if LAWS[gadget[0]](p, *gadget[1:], row)]
+
+
+def full_set(web):
+    """All full rows of a small web, gone through one by one."""
+    p, gadgets, ties = web
+    rows = (sum(parts, ()) for parts in itertools.product(*[gadget_stands(p, gadget) for gadget in gadgets]))
+    return {row for row in rows if all(keeps_tie(p, tie, row) for tie in ties)}
+
+
+def at_left(web, row):
+    """The part of a row at all posts that stands at the posts left."""
+    return tuple(row[post] for post in left_by_the_words(web))
+
+
+def any_gadget(source, p, room, word=None):
+    """A made-up gadget of at most so many posts."""
+    widths = {"spring": (1, 1), "lever": (2, 2), "knot": (2, room), "ring": (2, room), "table": (0, room)}
+    word = word or source.choice([word for word, (least, most) in widths.items() if least <= min(most, room)])
+    if word in ("spring", "lever"):
+        return (word, source.randrange(p))
+    many = source.randint(*widths[word])
+    if word == "table":
+        return (word, any_hold(source, many), any_table(source, p, many, source.randrange(2)))
+    return (word, many)
+
+
+def any_ties(source, posts, least, most):
+    """Made-up ties of so many posts, at least and at most so many of which are left, in any order."""
+    free = source.sample(range(posts), posts)
+    ties = []
+    stop = source.randint(min(least, posts), min(most, posts))
+    while len(free) > stop:
+        if len(free) - stop > 1 and source.randrange(3):
+            ties.append(("join", *sorted([free.pop(), free.pop()])))
+        else:
+            ties.append((source.choice(("still", "free")), free.pop()))
+    return tuple(source.sample(ties, len(ties)))
+
+
+def any_web(source, p, many, wide, most=10):
+    """A made-up web of at most so many gadgets of at most so many posts, with at most so many left."""
+    gadgets, room = [], wide
+    for _ in range(many):
+        gadgets.append(any_gadget(source, p, min(room, source.choice((1, 2, 3, 3, 10)))))
+        room -= posts_of_gadget(gadgets[-1])
+    return (p, tuple(gadgets), any_ties(source, wide - room, 0, most))
+
+
+def small_webs(name, times=30):
+    """(source, web) of webs whose full rows can be gone through one by one."""
+    source = dice(name)
+    for p, many, wide in ((2, 0, 0), (2, 3, 4), (2, 5, 7), (2, 7, 9), (3, 2, 3), (3, 4, 5), (3, 5, 6), (5, 2, 3),
+                          (5, 3, 4), (7, 2, 2), (7, 3, 3), (11, 2, 2), (13, 2, 2)):
+        for _ in range(times):
+            room, gadgets = wide, []
+            for _ in range(source.randint(0, many)):
+                gadgets.append(any_gadget(source, p, min(room, 5 if p == 2 else 3 if p < 7 else 2)))
+                room -= posts_of_gadget(gadgets[-1])
+            yield source, (p, tuple(gadgets), any_ties(source, wide - room, 0, 10))
+
+
+def web_samples(name, times=4):
+    """(source, web) of webs of none to twelve gadgets, up to twenty posts, round each prime."""
+    source = dice(name)
+    for p in PRIMES:
+        for many, wide in ((0, 0), (1, 10), (2, 6), (3, 9), (4, 12), (6, 16), (9, 20), (12, 20)):
+            for _ in range(times):
+                yield source, any_web(source, p, many, wide)
+
+
+def drawn(source, values, many):
+    """So many of the values, drawn; all where there are fewer."""
+    values = list(values)
+    return source.sample(values, min(many, len(values)))
+
+
 def one_otherwise(value):
     """All that comes of a value when one thing somewhere within it is put otherwise."""
     if isinstance(value, (tuple, list)):
@@ -219,15 +432,28 @@ def one_otherwise(value):
             yield from (value[:at] + kind([other]) + value[at + 1:] for other in one_otherwise(inner))
     elif isinstance(value, int):
         yield from (value + 1, value - 1, -value, value + 2 ** 64, bool(value), not value, (value,), [value])
-    else:
+    elif isinstance(value, str):
         yield from (value + "s", value[:-1], value.upper(), value + " ", (value,), [value], list(value))
     yield from (None, True, False, "", "0", (), [], {}, {0: value} if isinstance(value, (int, str)) else {0: 0})
 
 
+def put_otherwise(source, value):
+    """One made-up value among those that come when one thing somewhere within it is put otherwise."""
+    if isinstance(value, (tuple, list)) and value and source.randrange(5):
+        at = source.randrange(len(value))
+        return value[:at] + type(value)([put_otherwise(source, value[at])]) + value[at + 1:]
+    if isinstance(value, (tuple, list)):
+        value = value[:4] if source.randrange(8) == 0 else value
+        return source.choice([[*value], (*value,), value[:-1], value[1:], value + value[-1:], value[::-1], None, 0])
+    return source.choice(list(one_otherwise(value)))
+
+
 def spelled(value):
-    """A value written out: truths and numbers, lists and tuples are told apart, things by their lots alone."""
+    """A value written out: truths and numbers, lists and tuples are told apart, things by their lots."""
     if isinstance(value, Thing):
         return f"Thing({value.p()!r}, {value.rows()!r})"
+    if isinstance(value, (Bench, Curtain)):
+        return f"{type(value).__name__}({spelled(vars(value))})"
     if isinstance(value, (tuple, list)):
         return f"{type(value).__name__}({', '.join([spelled(one) for one in value])})"
     if isinstance(value, dict):
@@ -276,3 +502,17 @@ class Told(unittest.TestCase):
         first.reverse()
         self.assertEqual(second, as_it_was)
         self.assertEqual(asked(*told), as_it_was)
+
+    def is_thing(self, thing, p, posts):
+        self.assertIs(type(thing), Thing)
+        self.assertEqual((thing.p(), thing.posts()), (p, posts))
+        self.assertEqual(thing, Thing(p, thing.rows()))
+
+    def refuses(self, kind, field, value, asked, *told):
+        ahead = spelled(told)
+        for _ in range(2):
+            with self.assertRaises(PostError) as caught:
+                asked(*told)
+            self.assertIs(type(caught.exception), kind)
+            self.assertEqual(spelled(getattr(caught.exception, field)), spelled(value))
+            self.assertEqual(spelled(told), ahead)

@@ -3,25 +3,9 @@ import unittest
 from fairposts import gadgets, holds
 from fairposts.things import Thing
 from tests.helper import (
-    PRIMES, all_of, all_rows, all_tables, all_thing_rows, any_hold, any_row, any_table, dice, endless, is_among,
-    kept_as_is, mixed, odd_things, one_otherwise, spelled, table_rows, unalike,
+    LAWS, PRIMES, all_of, all_rows, all_tables, all_thing_rows, any_hold, any_row, any_table, dice, endless, is_among,
+    is_gadget_by_the_words, kept_as_is, mixed, odd_things, one_otherwise, spelled, table_rows, unalike,
 )
-
-
-def is_spring(p, k, row):
-    return row[0][1] == k * row[0][0] % p
-
-
-def is_lever(p, k, row):
-    return row[1][0] == k * row[0][0] % p and row[0][1] == -k * row[1][1] % p
-
-
-def is_knot(p, many, row):
-    return len({push for push, answer in row}) == 1 and sum(answer for push, answer in row) % p == 0
-
-
-def is_ring(p, many, row):
-    return len({answer for push, answer in row}) == 1 and sum(push for push, answer in row) % p == 0
 
 
 def told_gadgets():
@@ -35,7 +19,6 @@ def told_gadgets():
             yield "ring", p, many, many
 
 
-LAWS = {"spring": is_spring, "lever": is_lever, "knot": is_knot, "ring": is_ring}
 MAKERS = {"spring": gadgets.spring, "lever": gadgets.lever, "knot": gadgets.knot, "ring": gadgets.ring}
 
 
@@ -51,25 +34,6 @@ def a_stand(source, p, word, number):
     numbers = [source.randrange(p) for _ in range(number - 1)]
     numbers.append(-sum(numbers) % p)
     return tuple((alike, other) if word == "knot" else (other, alike) for other in numbers)
-
-
-def by_the_words(p, thing):
-    """Tell whether thing is a gadget round p, as [12] and [21] have it."""
-    if type(thing) is not tuple or len(thing) not in (2, 3) or type(thing[0]) is not str:
-        return False
-    if len(thing) == 2:
-        low, high = {"spring": (0, p - 1), "lever": (0, p - 1), "knot": (2, 10), "ring": (2, 10)}.get(thing[0], (1, 0))
-        return type(thing[1]) is int and low <= thing[1] <= high
-    word, hold, table = thing
-    if word != "table" or type(hold) is not tuple or type(table) is not tuple or len(hold) > 10:
-        return False
-    if any(type(side) is not int or side not in (0, 1) for side in hold) or len(table) != len(hold):
-        return False
-    if any(type(row) is not tuple or len(row) != len(hold) for row in table):
-        return False
-    if any(type(number) is not int or not 0 <= number < p for row in table for number in row):
-        return False
-    return all(table[k][j] == table[j][k] for k in range(len(hold)) for j in range(k))
 
 
 class ToldThings(unittest.TestCase):
@@ -198,7 +162,7 @@ class IsGadget(unittest.TestCase):
             for gadget in told:
                 self.says(True, p, gadget)
                 for thing in one_otherwise(gadget):
-                    truth = by_the_words(p, thing)
+                    truth = is_gadget_by_the_words(p, thing)
                     self.says(truth, p, thing)
                     rights += truth
         self.assertGreater(rights, 100)

@@ -1,57 +1,20 @@
 import unittest
 
 from fairposts import holds
-from fairposts.errors import PostError, Still
+from fairposts.errors import Still
 from fairposts.gadgets import by_table, knot, lever, ring, spring
 from fairposts.things import Thing
 from tests.helper import (
-    PRIMES, Told, all_of, all_rows, any_hold, any_row, any_table, dice, endless, first_of, kept_as_is, lot, mixed,
-    odd_things, one_otherwise, rank, small_things, spelled, table_rows, thing_samples, unalike,
+    PRIMES, Told, all_of, all_rows, any_hold, any_row, any_table, dice, endless, held, kept_as_is, lot,
+    mended_by_the_words, mixed, odd_things, one_otherwise, plain_of, rank, small_things, spelled, still_set,
+    table_by_the_words, table_rows, thing_samples, unalike,
 )
-
-
-def held(hold, row):
-    return tuple(pair[side] for pair, side in zip(row, hold))
-
-
-def still_set(hold, stands):
-    """The still ones of a hold: its still hands and the row of noughts."""
-    return {row for row in stands if not any(held(hold, row))}
 
 
 def stands_by_counting(p, hold, stands):
     """Tell whether for all numbers there is just one stand that has them, as [16] has it."""
     found = [held(hold, row) for row in stands]
     return all(found.count(numbers) == 1 for numbers in all_of(range(p), len(hold)))
-
-
-def plain_of(stills):
-    """The plain rows of a whole lot: each has a 1 first, where all others have 0."""
-    firsts = sorted({first_of(row) for row in stills if any(map(any, row))})
-    found = []
-    for at, first in enumerate(firsts):
-        wanted = [int(other == at) for other in range(len(firsts))]
-        found += [row for row in stills if [sum(row, ())[place] for place in firsts] == wanted]
-    return found
-
-
-def table_by_the_words(p, hold, stands):
-    """The table, as [17] has it: of the stands with one 1 held."""
-    found = []
-    for k in range(len(hold)):
-        row = next(row for row in stands if held(hold, row) == tuple(int(j == k) for j in range(len(hold))))
-        found.append(tuple((0 - row[j][0]) % p if side else row[j][1] for j, side in enumerate(hold)))
-    return tuple(found)
-
-
-def mended_by_the_words(hold, stands):
-    """Mended step by step, as [19] has it."""
-    hold, posts = list(hold), []
-    while len(still_set(hold, stands)) > 1:
-        least = min(post for row in still_set(hold, stands) for post in range(len(hold)) if row[post][1 - hold[post]])
-        hold[least] = 1 - hold[least]
-        posts.append(least)
-    return tuple(hold), tuple(posts)
 
 
 def is_right_paper(p, hold, stands, paper):
@@ -80,13 +43,7 @@ def hold_samples(name, times=3):
 
 class Holding(Told):
     def refuses(self, hand, asked, *told):
-        ahead = spelled(told)
-        for _ in range(2):
-            with self.assertRaises(PostError) as caught:
-                asked(*told)
-            self.assertIs(type(caught.exception), Still)
-            self.assertEqual(spelled(caught.exception.hand), spelled(hand))
-            self.assertEqual(spelled(told), ahead)
+        Told.refuses(self, Still, "hand", hand, asked, *told)
 
 
 class IsHold(unittest.TestCase):

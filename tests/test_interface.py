@@ -1,7 +1,9 @@
 import inspect
 import unittest
 
-from fairposts import errors, gadgets, holds, rounds, rows, spans, things, ties
+from fairposts import (
+    benches, curtains, errors, exchanges, gadgets, holds, rounds, rows, spans, things, ties, webs,
+)
 
 FUNCTIONS = {
     rounds: {"is_prime": ["thing"], "is_round": ["p", "thing"], "inverse": ["p", "number"],
@@ -18,11 +20,26 @@ FUNCTIONS = {
     holds: {"is_hold": ["posts", "thing"], "stands": ["thing", "hold"], "still_hands": ["thing", "hold"],
             "read": ["thing", "hold", "numbers"], "table": ["thing", "hold"], "hold_paper": ["thing", "hold"],
             "paper_holds": ["thing", "hold", "paper"], "mended": ["thing", "hold"], "all_holds": ["thing"]},
+    exchanges: {"exchanged": ["thing", "hold", "posts"], "turned": ["p", "hold", "table", "posts"],
+                "way": ["thing", "one", "other"], "way_holds": ["thing", "one", "other", "paper"]},
+    webs: {"web_fault": ["thing"], "left": ["web"], "thing_of": ["web"], "is_full": ["web", "thing"],
+           "let_paper": ["web", "row"], "let_holds": ["web", "row", "paper"], "webs_paper": ["one", "other"],
+           "webs_hold": ["one", "other", "paper"], "folded": ["web", "numbers"]},
+    curtains: {"judged_holds": ["p", "posts", "rows", "hold", "paper"]},
 }
+
+VALUES = {rounds: {"PRIMES": (2, 3, 5, 7, 11, 13), "POSTS": 10}, webs: {"GADGETS": 12, "WIDEST": 20},
+          benches: {"DEEDS": 60}, curtains: {"THINGS": 400}}
 
 METHODS = {
     things.Thing: {"__init__": ["p", "rows"], "p": [], "posts": [], "rows": [], "has": ["row"], "told": [],
                    "__eq__": ["other"], "__len__": [], "__str__": []},
+    benches.Bench: {"__init__": ["p", "most"], "put": ["gadget"], "join": ["one", "other"], "still": ["post"],
+                    "free": ["post"], "exchange": ["one", "other"], "hold": ["post", "number"], "back": [],
+                    "read": ["post"], "posts": [], "sides": [], "numbers": [], "stand": [], "web": [], "log": [],
+                    "thing": [], "twin": [], "__eq__": ["other"], "__len__": [], "__str__": []},
+    curtains.Curtain: {"__init__": ["p", "posts"], "tell": ["row"], "kept": [], "many": [], "fits": ["thing"],
+                       "judged": ["hold"], "things": [], "__eq__": ["other"], "__len__": []},
 }
 
 ERRORS = {"BadThing": ["place"], "BadGadget": [], "BadPost": ["post"], "BadNumber": ["number"], "BadText": ["row"],
@@ -42,6 +59,17 @@ class Interface(unittest.TestCase):
             for name, arguments in methods.items():
                 self.assertIn(name, vars(kind))
                 self.assertEqual(list(inspect.signature(vars(kind)[name]).parameters), ["self", *arguments])
+
+    def test_values(self):
+        for module, values in VALUES.items():
+            for name, value in values.items():
+                self.assertEqual(getattr(module, name), value)
+                self.assertIs(type(getattr(module, name)), type(value))
+
+    def test_defaults(self):
+        self.assertEqual(inspect.signature(benches.Bench).parameters["most"].default, 60)
+        self.assertEqual(inspect.signature(benches.Bench).parameters["most"].kind, inspect.Parameter.KEYWORD_ONLY)
+        self.assertIsNone(inspect.signature(benches.Bench.exchange).parameters["other"].default)
 
     def test_errors_and_arguments(self):
         for name, arguments in ERRORS.items():

@@ -13,9 +13,11 @@ ALLOWED = set("""
     LookupError ZeroDivisionError ArithmeticError OverflowError RuntimeError NotImplementedError AttributeError
     StopIteration NotImplemented
 """.split())
-BARRED = set("""
+BARRED_WORDS = set("""
     type typing typing_extensions enum Enum IntEnum StrEnum Flag IntFlag Generic Protocol ABC ABCMeta namedtuple
     NamedTuple TypedDict TYPE_CHECKING abstractmethod dataclass overload contextmanager
+""".split())
+BARRED_NAMES = set("""
     register mro elements open input version_info with_traceback add_note
     attrgetter breakpoint builtins compile copyright credits delattr dir eval exec exit gc getattr globals hasattr help
     id importlib license locals methodcaller os quit setattr vars sys
@@ -47,6 +49,18 @@ def bound_names(tree):
             yield node.name
         elif isinstance(node, ast.alias):
             yield node.asname or node.name
+
+
+def all_names(tree):
+    """All names that a file has, read or given a meaning, attributes and keywords too."""
+    yield from bound_names(tree)
+    for node in ast.walk(tree):
+        if isinstance(node, ast.Name):
+            yield node.id
+        elif isinstance(node, ast.Attribute):
+            yield node.attr
+        elif isinstance(node, ast.keyword):
+            yield node.arg
 
 
 def module_names(tree):
@@ -95,7 +109,11 @@ class Language(unittest.TestCase):
     def test_no_barred_words(self):
         for path in files():
             words = set(re.findall(r"\w+", path.read_text("ascii")))
-            self.assertEqual(words & BARRED, set(), path)
+            self.assertEqual(words & BARRED_WORDS, set(), path)
+
+    def test_no_barred_names(self):
+        for path, tree in trees():
+            self.assertEqual(set(all_names(tree)) & BARRED_NAMES, set(), path)
 
     def test_names(self):
         for path, tree in trees():

@@ -1,7 +1,7 @@
 import itertools
 import unittest
 
-from fairposts.errors import BadThing, PostError
+from fairposts.errors import BadThing
 from fairposts.things import Thing
 from tests.helper import (
     PRIMES, Told, all_of, all_rows, all_thing_rows, any_row, any_thing_rows, dice, endless, flat, is_among, kept_as_is,
@@ -211,15 +211,9 @@ class ToldForm(unittest.TestCase):
             self.assertIs(other.told() == thing.told(), other == thing)
 
 
-class Refused(unittest.TestCase):
+class Refused(Told):
     def refuses(self, place, p, rows):
-        for _ in range(2):
-            ahead = spelled((p, rows))
-            with self.assertRaises(PostError) as caught:
-                Thing(p, rows)
-            self.assertIs(type(caught.exception), BadThing)
-            self.assertEqual(spelled(caught.exception.place), spelled(place))
-            self.assertEqual(spelled((p, rows)), ahead)
+        Told.refuses(self, BadThing, "place", place, Thing, p, rows)
 
     def test_p(self):
         numbers = [0, 1, 4, 6, 8, 9, 10, 12, 15, 16, 17, -2, 2 + 2 ** 64, "13", [13], (13,), {13: 13}]

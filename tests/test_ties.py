@@ -2,21 +2,13 @@ import itertools
 import unittest
 
 from fairposts import ties
-from fairposts.errors import BadPost, PostError, TooMany
+from fairposts.errors import BadPost, TooMany
 from fairposts.gadgets import knot, lever, ring, spring
 from fairposts.things import Thing
 from tests.helper import (
-    PRIMES, all_rows, all_thing_rows, any_row, any_thing_rows, dice, endless, kept_as_is, lot, mixed, odd_things,
-    small_things, spelled, thing_samples,
+    PRIMES, Told, a_stand, all_rows, all_thing_rows, any_row, any_thing_rows, dice, endless, kept_as_is, lot,
+    odd_things, small_things, stands_of, thing_samples,
 )
-
-
-def stands_of(thing):
-    return lot(thing.p(), thing.posts(), thing.rows())
-
-
-def a_stand(source, thing):
-    return mixed(thing.p(), thing.posts(), [source.randrange(thing.p()) for _ in thing.rows()], thing.rows())
 
 
 def without(row, *gone):
@@ -26,22 +18,6 @@ def without(row, *gone):
 def put_in(row, post, pair):
     """The row with a pair put in such that it stands at that post."""
     return row[:post] + (pair,) + row[post:]
-
-
-class Told(unittest.TestCase):
-    def is_thing(self, thing, p, posts):
-        self.assertIs(type(thing), Thing)
-        self.assertEqual((thing.p(), thing.posts()), (p, posts))
-        self.assertEqual(thing, Thing(p, thing.rows()))
-
-    def refuses(self, kind, field, value, asked, *told):
-        ahead = spelled(told)
-        for _ in range(2):
-            with self.assertRaises(PostError) as caught:
-                asked(*told)
-            self.assertIs(type(caught.exception), kind)
-            self.assertEqual(spelled(getattr(caught.exception, field)), spelled(value))
-            self.assertEqual(spelled(told), ahead)
 
 
 class Beside(Told):
