@@ -1,7 +1,6 @@
 """Benches: what was put and tied, held by hands, with each deed to be taken back."""
 
-from fairposts.errors import BadGadget, BadNumber, BadPost, BadThing, NoBack, Still, TooMany
-from fairposts.rounds import is_prime
+from fairposts.errors import BadGadget, BadNumber, BadPost, NoBack, Still, TooMany
 from fairposts.stances import (
     first_stance, read_at, stand_of, with_exchange, with_gadget, with_number, with_tie,
 )
@@ -11,11 +10,9 @@ DEEDS = 60
 
 
 class Bench:
-    """A bench round p, of which at most so many deeds can be taken back."""
+    """A bench round p, of which at most so many deeds can be taken back; BadThing where p is no prime."""
 
     def __init__(self, p, *, most=DEEDS):
-        if not is_prime(p):
-            raise BadThing(("p",))
         self.most = most
         self.now = first_stance(p)
         self.past = []

@@ -22,20 +22,13 @@ def turned(p, hold, table, posts):
     return None if shown is None else (found, shown)
 
 
-def can_turn(p, table, posts):
-    """Tell whether the hold behind an exchange at posts stands, by its table."""
-    # What is read at the exchanged posts must tell what was held there: so the
-    # table's numbers of these posts alone may not tell two of them as one.
-    first, last = posts[0], posts[-1]
-    if first == last:
-        return table[first][first] != 0
-    return (table[first][first] * table[last][last] - table[first][last] * table[last][first]) % p != 0
-
-
-def exchanges_of(posts):
-    """Return a list of all exchanges at one of posts, then of all at two, in the order of tuples."""
+def first_exchange(table, posts):
+    """Return the first exchange, of one of posts or else of two, behind which the hold of table stands."""
+    # One post can be exchanged where its own number isn't 0. Where no post can,
+    # two can together where their number isn't 0, as their own ones are.
     alone = [(post,) for post in posts]
-    return alone + [(one, other) for one in posts for other in posts if one < other]
+    both = [(one, other) for one in posts for other in posts if one < other]
+    return [step for step in alone + both if table[step[0]][step[-1]] != 0][0]
 
 
 def differing(one, other):
@@ -49,9 +42,8 @@ def way(thing, one, other):
     hold, shown = one, table_of(p, one, thing.rows())
     found = []
     while hold != other:
-        able = [posts for posts in exchanges_of(differing(hold, other)) if can_turn(p, shown, posts)]
-        hold, shown = turned(p, hold, shown, able[0])
-        found.append(able[0])
+        found.append(first_exchange(shown, differing(hold, other)))
+        hold, shown = turned(p, hold, shown, found[-1])
     return tuple(found)
 
 

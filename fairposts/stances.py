@@ -9,14 +9,14 @@ from fairposts.errors import BadGadget, BadNumber, BadPost, TooMany
 from fairposts.exchanges import exchanged
 from fairposts.gadgets import is_gadget, made, width
 from fairposts.holds import mended, read
-from fairposts.rounds import POSTS, is_round, is_whole
+from fairposts.rounds import is_round, is_whole
 from fairposts.things import Thing
 from fairposts.ties import beside, tied
 from fairposts.webs import GADGETS, WIDEST, left, wide
 
 
 def first_stance(p):
-    """Return the stance without gadgets and posts."""
+    """Return the stance without gadgets and posts; refuse with BadThing where p (anything) is no prime."""
     return ((p, (), ()), Thing(p, ()), (), ())
 
 
@@ -34,27 +34,20 @@ def settled(web, thing, hold, numbers):
     return ((web, thing, found, kept), tuple(names[place] for place in places))
 
 
-def check_room(web, gadget):
-    """Refuse with TooMany a gadget with which a bound would be passed."""
-    gadgets = web[1]
-    if len(gadgets) + 1 > GADGETS:
-        raise TooMany(GADGETS)
-    if wide(gadgets) + width(gadget) > WIDEST:
-        raise TooMany(WIDEST)
-    if len(left(web)) + width(gadget) > POSTS:
-        raise TooMany(POSTS)
-
-
 def with_gadget(stance, gadget):
     """Put a gadget (anything); the answer is the new posts' numbers."""
     web, thing, hold, numbers = stance
     p, gadgets, ties = web
     if not is_gadget(p, gadget):
         raise BadGadget()
-    check_room(web, gadget)
     first, many = wide(gadgets), width(gadget)
-    noughts = (0,) * many
+    if len(gadgets) + 1 > GADGETS:
+        raise TooMany(GADGETS)
+    if first + many > WIDEST:
+        raise TooMany(WIDEST)
+    # This refuses more posts than may be left.
     more = beside(thing, made(p, gadget))
+    noughts = (0,) * many
     found = settled((p, (*gadgets, gadget), ties), more, hold + noughts, numbers + noughts)
     return (found[0], tuple(range(first, first + many)))
 

@@ -160,9 +160,7 @@ def are_alike(one, other, fulls, others):
     if not isinstance(fulls, tuple) or not isinstance(others, tuple):
         return False
     names = left(one)
-    if len(fulls) != len(names) or len(others) != len(names):
-        return False
-    if not are_full(one, fulls) or not are_full(other, others):
+    if len(fulls) != len(names) or not are_full(one, fulls) or not are_full(other, others):
         return False
     parts = [part(full, names) for full in fulls]
     if parts != [part(full, left(other)) for full in others]:

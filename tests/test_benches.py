@@ -415,8 +415,8 @@ class Refused(Benches):
 
     def test_gadgets(self):
         bench, model = self.start()
-        for odd in odd_things() + [("spring", 5), ("spring", True), ("knot", 1), ("knot", 11), ["spring", 1], knot(5, 2),
-                                   ("table", (0,), ((5,),)), ("table", (0, 0), ((0, 1), (2, 0))), Bench(5)]:
+        for odd in odd_things() + [("spring", 5), ("spring", True), ("knot", 1), ("knot", 11), ["spring", 1],
+                                   knot(5, 2), ("table", (0,), ((5,),)), ("table", (0, 0), ((0, 1), (2, 0))), Bench(5)]:
             self.assertEqual(self.goes_on(model, bench, "put", odd), "BadGadget")
         for gadget in (("spring", 3), ("ring", 2), ("table", (0, 1), ((1, 2), (2, 3)))):
             for other in one_otherwise(gadget):
@@ -450,9 +450,9 @@ class Refused(Benches):
     def test_the_very_thing_is_told(self):
         bench = self.start()[0]
         wide = endless(tuple, 1000)
-        for asked, told in ((bench.still, (wide,)), (bench.free, (wide,)), (bench.join, (wide, 2)), (bench.read, (wide,)),
-                            (bench.join, (2, wide)), (bench.exchange, (wide,)), (bench.exchange, (2, wide)),
-                            (bench.hold, (wide, 0)), (bench.hold, (wide, wide))):
+        for asked, told in ((bench.still, (wide,)), (bench.free, (wide,)), (bench.join, (wide, 2)),
+                            (bench.read, (wide,)), (bench.join, (2, wide)), (bench.exchange, (wide,)),
+                            (bench.exchange, (2, wide)), (bench.hold, (wide, 0)), (bench.hold, (wide, wide))):
             with self.assertRaises(BadPost) as caught:
                 asked(*told)
             self.assertIs(caught.exception.post, wide)
@@ -477,10 +477,8 @@ class Refused(Benches):
         self.assertEqual(bench.posts(), (0, 1, 2, 3, 4))
         self.is_refused((Still, "hand", ((1, 0), *((0, 0),) * 4)), bench.exchange, 0)
         bench.still(0)
-        hand = still_hands(bench.thing(), (0, 0, *bench.sides()[2:]))[0]
-        self.assertEqual(len(hand), 4)
-        self.is_refused((Still, "hand", hand), bench.exchange, *[
-            post for post, side, other in zip(bench.posts(), bench.sides(), (0, 0, *bench.sides()[2:])) if side != other])
+        self.assertEqual(bench.sides(), (1, 0, 1, 0))
+        self.is_refused((Still, "hand", ((0, 1), (0, 2), (0, 0), (0, 0))), bench.exchange, 1)
         self.assertEqual(bench.log()[-1], ("exchange", "Still"))
         self.assertIsNone(bench.exchange(4, 3))
         self.assertIsNone(bench.exchange(1, 2))

@@ -294,8 +294,8 @@ class Fitting(Curtains):
                         self.assertTrue(all(by_table(*one).has(row) for row in rows))
 
     def test_too_many(self):
-        for p, posts, refused in ((7, 2, False), (11, 2, True), (3, 2, False), (3, 3, True), (2, 4, True), (2, 3, False),
-                                  (13, 1, False), (13, 10, True)):
+        for p, posts, refused in ((7, 2, False), (11, 2, True), (3, 2, False), (3, 3, True), (2, 4, True),
+                                  (2, 3, False), (13, 1, False), (13, 10, True)):
             curtain = Curtain(p, posts)
             for _ in range(2):
                 if refused:
@@ -355,7 +355,7 @@ class Equality(Curtains):
 
     def test_nothing_else(self):
         curtain = behind(5, 1, [((1, 2),)])
-        for odd in odd_things() + [spring(5, 2), Bench(5), curtain.kept(), list(curtain.kept()), (5, 1, curtain.kept())]:
+        for odd in odd_things() + [spring(5, 2), Bench(5), curtain.kept(), [*curtain.kept()], (5, 1, curtain.kept())]:
             self.assertIs(curtain == odd, False)
             self.assertIs(odd == curtain, False)
             self.assertIs(curtain != odd, True)
@@ -454,14 +454,14 @@ class Judged(Curtains):
             found = [*drawn(source, one_otherwise(paper), 30), *[put_otherwise(source, paper) for _ in range(10)]]
             word, *shown = paper
             found += [(other, *shown) for other in ("still", "table", "open", "Still", "")]
-            found += [(word, *shown[::-1]), (word, *shown, *shown), (word, *shown, ()), (word, shown), (word,), [*paper]]
+            found += [(word, *shown[::-1]), (word, *shown, *shown), (word, *shown, ()), (word, shown), (word,)]
             if word == "open":
                 found += [(word, shown[0], shown[0]), (word, shown[1], shown[1]), (word, shown[0][::-1], shown[1]),
                           (word, shown[0], tuple(other_span(source, p, posts, shown[1]))[:posts]),
                           (word, shown[0] + rows[:1], shown[1]), (word, shown[0], shown[1] + rows[:1]),
                           (word, shown[0][:-1], shown[1]), (word, shown[0], shown[1][:-1] + shown[1][:1])]
             elif word == "still":
-                found += [(word, (0,) * len(rows)), (word, tuple(-one % p for one in shown[0])), (word, shown[0] + (0,))]
+                found += [(word, (0,) * len(rows)), (word, tuple(-one % p for one in shown[0]))]
             for other in found:
                 truth = is_right_judged(p, posts, rows, hold, other)
                 rights, wrongs = rights + truth, wrongs + (not truth)

@@ -321,7 +321,8 @@ class Letting(Told):
             self.assertIs(webs.is_full(web, ()), True)
             self.assertEqual(webs.let_paper(web, ()), ("let", ()))
             for web in ((p, (("spring", 1),), (("still", 0),)), (p, (("knot", 2),), (("join", 0, 1),)),
-                        (p, (("table", (), ()),) * 12, ()), (p, (("ring", 10),), tuple(("free", k) for k in range(10)))):
+                        (p, (("table", (), ()),) * 12, ()),
+                        (p, (("ring", 10),), tuple(("free", k) for k in range(10)))):
                 self.assertEqual(webs.left(web), ())
                 self.assertEqual(webs.thing_of(web), Thing(p, ()))
                 word, full = webs.let_paper(web, ())
@@ -570,11 +571,12 @@ class TwoWebs(Told):
                            (word, fulls, list(others)), ("apart", fulls, others), (word, fulls, others, ())]
             else:
                 way, row, full, bar = shown
-                changes = [(word, 1 - way, row, full, bar), (word, 1 - way, row, bar, full), (word, way, row, bar, full),
-                           (word, bool(way), row, full, bar), ("alike", way, row, full, bar), (word, way, full, row, bar),
+                changes = [(word, 1 - way, row, full, bar), (word, 1 - way, row, bar, full),
+                           (word, way, row, bar, full), (word, bool(way), row, full, bar),
+                           ("alike", way, row, full, bar), (word, way, full, row, bar),
                            (word, way, list(row), full, bar), (word, 2, row, full, bar), (word, -1, row, full, bar),
-                           (word, way, row, full), (word, way, row, full, bar, bar), (word, way, at_left(other, bar), full,
-                                                                                     bar)]
+                           (word, way, row, full), (word, way, row, full, bar, bar),
+                           (word, way, at_left(other, bar), full, bar)]
             for wrong in changes:
                 self.says(is_right_paper(one, other, wrong), one, other, wrong)
         self.assertGreater(min(rights, wrongs), 10)
@@ -584,15 +586,16 @@ class TwoWebs(Told):
         for first, second in itertools.product((one, other, third), repeat=2):
             word, *shown = webs.webs_paper(first, second)
             for odd in odd_things() + [Thing(2, ()), one, [word, *shown]]:
-                papers = [odd, (odd,), (odd, *shown), (word, *shown, odd), ("alike", odd, odd), ("alike", (odd,), (odd,)),
-                          ("alike", (((odd, 0),),), (((odd, 0),),)), ("apart", odd, odd, odd, odd),
-                          ("apart", odd, ((1, 3),), ((1, 3),), ((1, 2),)), ("apart", 0, odd, ((1, 3),), ((1, 2),)),
+                papers = [odd, (odd,), (odd, *shown), (word, *shown, odd), ("alike", odd, odd),
+                          ("alike", (odd,), (odd,)), ("alike", (((odd, 0),),), (((odd, 0),),)),
+                          ("apart", odd, odd, odd, odd), ("apart", odd, ((1, 3),), ((1, 3),), ((1, 2),)), ("apart", 0, odd, ((1, 3),), ((1, 2),)),
                           ("apart", 0, ((1, 3),), odd, ((1, 2),)), ("apart", 0, ((1, 3),), ((1, 3),), odd)]
                 for paper in papers:
                     self.says(is_right_paper(first, second, paper), first, second, paper)
             for wide in (endless(tuple, 3), endless(list, 3), endless(tuple, 5), endless(tuple, 1000)):
-                for paper in (wide, ("alike", wide, wide), ("alike", (wide,), (wide,)), ("apart", wide, wide, wide, wide),
-                              ("apart", 0, wide, ((1, 3),), ((1, 2),)), ("apart", 0, ((1, 3),), wide, wide)):
+                for paper in (wide, ("alike", wide, wide), ("alike", (wide,), (wide,)),
+                              ("apart", wide, wide, wide, wide), ("apart", 0, wide, ((1, 3),), ((1, 2),)),
+                              ("apart", 0, ((1, 3),), wide, wide)):
                     self.assertIs(webs.webs_hold(first, second, paper), False)
 
 
@@ -643,8 +646,9 @@ class Folded(Told):
     def test_all_groups_of_gadgets(self):
         for source, web in small_webs("folded", 4):
             many = len(web[1])
-            for numbers in (found for some in range(1, many + 1) for found in itertools.combinations(range(many), some)):
-                self.check(web, numbers)
+            for some in range(1, many + 1):
+                for numbers in itertools.combinations(range(many), some):
+                    self.check(web, numbers)
 
     def test_going_through_all_full_rows(self):
         for source, web in small_webs("folded full", 4):
