@@ -172,8 +172,8 @@ class Curtain:
         return sorted(found, key=lambda thing: thing.told())
 
     def __eq__(self, other):
-        same = isinstance(other, Curtain) and self.prime == other.prime
-        return same and self.wide == other.wide and self.lot == other.lot
+        return (isinstance(other, Curtain) and self.prime == other.prime
+                and self.wide == other.wide and self.lot == other.lot)
 
     def __len__(self):
         return len(self.known)

@@ -339,6 +339,41 @@ def is_full_by_the_words(web, row):
     return all(keeps_tie(p, tie, row) for tie in ties)
 
 
+def tie_fault(posts, ties):
+    """The first fault of ties, as the interface has it."""
+    if type(ties) is not tuple:
+        return ("ties",)
+    taken = []
+    for k, tie in enumerate(ties):
+        if type(tie) is not tuple or len(tie) not in (2, 3) or type(tie[0]) is not str:
+            return ("tie", k)
+        if (tie[0], len(tie)) not in (("join", 3), ("still", 2), ("free", 2)):
+            return ("tie", k)
+        if any(type(post) is not int or post not in range(posts) or post in taken for post in tie[1:]):
+            return ("tie", k)
+        if tie[0] == "join" and tie[1] >= tie[2]:
+            return ("tie", k)
+        taken += tie[1:]
+    return ("left",) if posts - len(taken) > 10 else None
+
+
+def web_fault_by_the_words(thing):
+    """The first fault of what should be a web, as the interface has it."""
+    if type(thing) is not tuple or len(thing) != 3:
+        return ("web",)
+    p, gadgets, ties = thing
+    if type(p) is not int or p not in PRIMES:
+        return ("p",)
+    if type(gadgets) is not tuple or len(gadgets) > 12:
+        return ("gadgets",)
+    for k, gadget in enumerate(gadgets):
+        if not is_gadget_by_the_words(p, gadget):
+            return ("gadget", k)
+    if sum(map(posts_of_gadget, gadgets)) > 20:
+        return ("wide",)
+    return tie_fault(sum(map(posts_of_gadget, gadgets)), ties)
+
+
 @functools.cache
 def gadget_stands(p, gadget):
     """All stands of a gadget of few posts."""

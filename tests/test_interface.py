@@ -2,7 +2,8 @@ import inspect
 import unittest
 
 from fairposts import (
-    benches, curtains, errors, exchanges, gadgets, holds, rounds, rows, spans, things, ties, webs,
+    beats, benches, curtains, desks, errors, exchanges, gadgets, holds, parts, rounds, rows, spans, texts, things, ties,
+    webs,
 )
 
 FUNCTIONS = {
@@ -26,10 +27,15 @@ FUNCTIONS = {
            "let_paper": ["web", "row"], "let_holds": ["web", "row", "paper"], "webs_paper": ["one", "other"],
            "webs_hold": ["one", "other", "paper"], "folded": ["web", "numbers"]},
     curtains: {"judged_holds": ["p", "posts", "rows", "hold", "paper"]},
+    parts: {"falls_apart": ["thing", "posts"], "parts_of": ["thing"], "part_of": ["thing", "posts"],
+            "things_with": ["p", "posts"], "tables_with": ["p", "posts"]},
+    beats: {"stepped": ["thing", "hold", "wires", "numbers"], "far": ["thing", "hold", "wires", "numbers", "many"],
+            "round_of": ["thing", "hold", "wires", "numbers"]},
+    texts: {"gadget_text": ["gadget"], "web_text": ["web"], "read_web": ["text"]},
 }
 
 VALUES = {rounds: {"PRIMES": (2, 3, 5, 7, 11, 13), "POSTS": 10}, webs: {"GADGETS": 12, "WIDEST": 20},
-          benches: {"DEEDS": 60}, curtains: {"THINGS": 400}}
+          benches: {"DEEDS": 60}, curtains: {"THINGS": 400}, beats: {"ROUNDS": 3000}}
 
 METHODS = {
     things.Thing: {"__init__": ["p", "rows"], "p": [], "posts": [], "rows": [], "has": ["row"], "told": [],
@@ -40,6 +46,7 @@ METHODS = {
                     "thing": [], "twin": [], "__eq__": ["other"], "__len__": [], "__str__": []},
     curtains.Curtain: {"__init__": ["p", "posts"], "tell": ["row"], "kept": [], "many": [], "fits": ["thing"],
                        "judged": ["hold"], "things": [], "__eq__": ["other"], "__len__": []},
+    desks.Desk: {"__init__": ["p", "most"], "say": ["row"], "heard": []},
 }
 
 ERRORS = {"BadThing": ["place"], "BadGadget": [], "BadPost": ["post"], "BadNumber": ["number"], "BadText": ["row"],
@@ -67,8 +74,9 @@ class Interface(unittest.TestCase):
                 self.assertIs(type(getattr(module, name)), type(value))
 
     def test_defaults(self):
-        self.assertEqual(inspect.signature(benches.Bench).parameters["most"].default, 60)
-        self.assertEqual(inspect.signature(benches.Bench).parameters["most"].kind, inspect.Parameter.KEYWORD_ONLY)
+        for kind in (benches.Bench, desks.Desk):
+            self.assertEqual(inspect.signature(kind).parameters["most"].default, 60)
+            self.assertEqual(inspect.signature(kind).parameters["most"].kind, inspect.Parameter.KEYWORD_ONLY)
         self.assertIsNone(inspect.signature(benches.Bench.exchange).parameters["other"].default)
 
     def test_errors_and_arguments(self):

@@ -179,6 +179,24 @@ class Language(unittest.TestCase):
                     attributes.add(node.attr)
         self.assertEqual(methods & attributes, set())
 
+    def test_double_underscore_methods_only_return(self):
+        for path, tree in trees():
+            for node in ast.walk(tree):
+                if isinstance(node, ast.FunctionDef) and node.name in ("__eq__", "__str__", "__len__", "__repr__"):
+                    self.assertIsInstance(node.body[-1], ast.Return, (path, node.name))
+                    for inner in node.body[:-1]:
+                        self.assertIsInstance(inner, ast.Expr, (path, node.name))
+
+    def test_methods_and_attributes_are_no_builtin_values(self):
+        taken = {name for value in ("", 0, [], {}, set(), b"") for name in dir(value) if not name.startswith("__")}
+        for path, tree in trees():
+            for node in ast.walk(tree):
+                if isinstance(node, ast.ClassDef):
+                    names = {inner.name for inner in node.body if isinstance(inner, ast.FunctionDef)}
+                    self.assertLessEqual(names & taken, {"join"}, path)
+                if isinstance(node, ast.Attribute) and isinstance(node.ctx, ast.Store):
+                    self.assertNotIn(node.attr, taken, path)
+
     def test_views_are_iterated_at_once(self):
         for path, tree in trees():
             for node in ast.walk(tree):
