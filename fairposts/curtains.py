@@ -12,7 +12,7 @@ THINGS = 400
 
 
 def many_fitting(p, free):
-    """Return how many things fit where so many kept rows are fewer than posts."""
+    """Return how many things fit where there are so many more posts than kept rows."""
     many, power = 1, 1
     for step in range(free):
         power *= p
@@ -21,9 +21,10 @@ def many_fitting(p, free):
 
 
 def leaning(p, posts, rows, more, others):
-    """Return a list with a tuple of rows for each thing that fits, has not more, but others, each perhaps with more.
+    """Return a list with a tuple of rows that span it for each thing that leans on a thing with the row more.
 
-    With more itself, rows and others span a thing.
+    The latter is spanned by rows, more and others; one that leans on it has rows and, for each of others, that row
+    with a multiple of more added, but not more itself.
     """
     spans = [tuple(rows)]
     for row in others:
@@ -40,8 +41,8 @@ def fitting(p, posts, rows):
     if len(rows) == posts:
         return [tuple(rows)]
     more = [row for row in mirror(p, posts, rows) if not is_in(p, posts, rows, row)][0]
-    # A thing without this row has, of those of its rows that meet it with 0,
-    # all but a free number of just one thing with it.
+    # A thing that fits has this row, or leans on just one that has it: what is
+    # spanned by this row and by those of its rows that meet this one with 0.
     found = []
     for span in fitting(p, posts, [*rows, more]):
         found.append(span)
